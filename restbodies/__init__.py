@@ -1,0 +1,1 @@
+"""Restbodies: stiff bodies that meet, in exact steps."""

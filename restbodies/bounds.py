@@ -1,0 +1,10 @@
+"""The bounds of the program (point 4)."""
+
+CORNERS = 8
+REACH = 1000000
+MASS = 1000000
+BODIES = 12
+MEETINGS = 24
+DEEDS = 100
+LINES = 200
+FIGURES = 400
