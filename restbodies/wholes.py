@@ -1,10 +1,15 @@
 """Whole numbers: what is one, their divisors, their bounds."""
 
-from restbodies.bounds import FIGURES
+from restbodies.bounds import FIGURES, REACH
 
 
 def is_whole(thing):
     return isinstance(thing, int) and not isinstance(thing, bool)
+
+
+def in_reach(thing):
+    """Whether a thing, which may be anything, is a whole number from -REACH to REACH."""
+    return is_whole(thing) and -REACH <= thing <= REACH
 
 
 def common_divisor(one, other):

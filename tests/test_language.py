@@ -249,6 +249,13 @@ class Rows(unittest.TestCase):
             for each in node.defaults + node.kw_defaults:
                 self.assertIsInstance(each, (ast.Constant, ast.Name, type(None)), mark)
 
+    def test_equal_and_text_assign_nothing(self):
+        for mark, node in nodes(ast.FunctionDef):
+            if node.name in ("__eq__", "__repr__", "__str__", "__len__"):
+                kinds = [each for each in ast.walk(node) if isinstance(each, (ast.Assign, ast.AugAssign, ast.Delete))]
+                self.assertEqual(kinds, [], mark)
+                self.assertIsInstance(node.body[-1], ast.Return, mark)
+
     def test_errors_are_raised_on_the_spot(self):
         for mark, node in nodes(ast.Raise):
             if node.exc is not None:

@@ -1,0 +1,24 @@
+"""Rows that move and change their speed, and rows of a world by their names."""
+
+from restbodies.errors import NoBody
+from restbodies.spots import spot_plus, spot_times
+
+
+def moved(row, span):
+    """The row at its place plus span times its speed."""
+    name, shape, mass, rail, place, speed = row
+    return (name, shape, mass, rail, spot_plus(place, spot_times(speed, span)), speed)
+
+
+def sped(row, change):
+    """The row with its speed plus the change."""
+    name, shape, mass, rail, place, speed = row
+    return (name, shape, mass, rail, place, spot_plus(speed, change))
+
+
+def find_row(rows, name):
+    """The row of a name, which may be anything."""
+    for row in rows:
+        if row[0] == name:
+            return row
+    raise NoBody("no body is called so")
