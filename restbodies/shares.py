@@ -85,6 +85,14 @@ def least(shares, *, default=NOUGHT):
     return best
 
 
+def on_one_bottom(shares):
+    """The tops of the shares over one bottom that serves them all, as a list, and that bottom."""
+    base = 1
+    for top, bottom in shares:
+        base = base // common_divisor(base, bottom) * bottom
+    return ([top * (base // bottom) for top, bottom in shares], base)
+
+
 def share_text(one):
     top, bottom = one
     if bottom == 1:

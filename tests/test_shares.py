@@ -10,7 +10,7 @@ from restbodies import shares
 from restbodies.bounds import FIGURES
 from restbodies.errors import NoShare
 from restbodies.shares import (
-    NOUGHT, WHOLE, is_share, least, minus, order, over, plus, read_share, share, share_text, times,
+    NOUGHT, WHOLE, is_share, least, minus, on_one_bottom, order, over, plus, read_share, share, share_text, times,
 )
 
 THIRTY = 123456789012345678901234567890
@@ -238,6 +238,18 @@ class Texts(Cases):
         ]:
             with self.subTest(text):
                 self.assert_no_share(read_share, text)
+
+
+class OnOneBottom(unittest.TestCase):
+
+    def test_tops_and_bottom(self):
+        for given, due in [
+            ([], ([], 1)), ([(3, 1)], ([3], 1)), ([(1, 2), (-1, 3)], ([3, -2], 6)), ([(1, 6), (3, 4)], ([2, 9], 12)),
+            (((0, 1), (5, 7), (0, 1)), ([0, 5, 0], 7)),
+        ]:
+            self.assertEqual(on_one_bottom(given), due)
+        tops, bottom = on_one_bottom(some_shares())
+        self.assertEqual([told(Fraction(top, bottom)) for top in tops], some_shares())
 
 
 if __name__ == "__main__":

@@ -1,0 +1,158 @@
+"""What several test files use: bodies, things of every kind, and gaps reckoned anew with Fractions."""
+
+import copy
+import random
+from fractions import Fraction
+
+from restbodies.bodies import free, railed, wall
+
+BOX = ((0, 0), (2, 0), (2, 2), (0, 2))
+TRIANGLE = ((0, 0), (3, 0), (0, 2))
+EIGHT = ((-2, -1), (-1, -2), (1, -2), (2, -1), (2, 1), (1, 2), (-1, 2), (-2, 1))
+THIN = ((0, 0), (7, 1), (1, 1))
+DIAMOND = ((-1, 0), (0, -1), (1, 0), (0, 1))
+SHAPES = (BOX, TRIANGLE, EIGHT, THIN, DIAMOND)
+
+
+def told(value):
+    value = Fraction(value)
+    return (value.numerator, value.denominator)
+
+
+def spot(x, y):
+    return (told(x), told(y))
+
+
+def values(thing):
+    return [Fraction(*part) for part in thing]
+
+
+def box(name, x, y, speed=(0, 0), shape=BOX, **more):
+    """A free body at a place, with a speed, both in plain numbers."""
+    return free(name, shape, at=spot(x, y), speed=spot(*speed), **more)
+
+
+def world(*rows):
+    return tuple(sorted(rows))
+
+
+def corners_of(row, after=0):
+    x, y = values(row[4])
+    u, v = values(row[5])
+    return [(a + x + after * u, b + y + after * v) for a, b in row[1]]
+
+
+def gap_of(one, other, way, after=0):
+    """The gap by the corners, as a Fraction."""
+    p, q = way
+    ahead = max(p * x + q * y for x, y in corners_of(one, after))
+    return min(p * x + q * y for x, y in corners_of(other, after)) - ahead
+
+
+def side_ways(row):
+    """The ways that point outwards, not in lowest terms."""
+    ends = zip(row[1], row[1][1:] + row[1][:1])
+    return [(d - b, a - c) for (a, b), (c, d) in ends]
+
+
+def rough_ways(one, other):
+    return side_ways(one) + [(-p, -q) for p, q in side_ways(other)]
+
+
+def are_over(one, other, after=0):
+    return all(gap_of(one, other, way, after) < 0 for way in rough_ways(one, other))
+
+
+def lies_inside(row, place, after=0):
+    """Whether a spot lies strictly inside a body."""
+    x, y = values(place)
+    corners = corners_of(row, after)
+    return all((c - a) * (y - b) - (d - b) * (x - a) > 0
+               for (a, b), (c, d) in zip(corners, corners[1:] + corners[:1]))
+
+
+def meeting_time(one, other):
+    """When two that aren't over meet, as a Fraction, or None; sought by looking between all times of a gap of nought."""
+    marks = {Fraction(0)}
+    for way in rough_ways(one, other):
+        now, then = gap_of(one, other, way), gap_of(one, other, way, 1)
+        if now != then:
+            marks.add(now / (now - then))
+    marks = sorted(mark for mark in marks if mark >= 0)
+    for start, end in zip(marks, marks[1:] + [marks[-1] + 2]):
+        if are_over(one, other, (start + end) / 2):
+            return start
+    return None
+
+
+def some_share(dice, top=12, bottom=6):
+    return told(Fraction(dice.randint(-top, top), dice.randint(1, bottom)))
+
+
+def some_spot(dice, top=12, bottom=6):
+    return (some_share(dice, top, bottom), some_share(dice, top, bottom))
+
+
+def some_row(dice, name, top=12, bottom=6):
+    """A wall, a free or a railed body of some shape."""
+    shape = dice.choice(SHAPES)
+    place = some_spot(dice, top, bottom)
+    kind = dice.randint(0, 4)
+    if kind == 0:
+        return wall(name, shape, at=place)
+    if kind == 1:
+        p, q = dice.choice([(1, 0), (0, 1), (1, -1), (2, 3), (-5, 1)])
+        part = Fraction(*some_share(dice, top, bottom))
+        return railed(name, shape, rail=(p, q), mass=dice.randint(1, 5), at=place, speed=spot(p * part, q * part))
+    return free(name, shape, mass=dice.randint(1, 5), at=place, speed=some_spot(dice, top, bottom))
+
+
+def some_pairs(count, seed, top=12, bottom=6):
+    dice = random.Random(seed)
+    return [(some_row(dice, "a", top, bottom), some_row(dice, "b", top, bottom)) for _ in range(count)]
+
+
+def nested(thing, depth):
+    for _ in range(depth):
+        thing = (thing,)
+    return thing
+
+
+LONG = 10 ** 999 + 7
+
+ANYTHING = [
+    None, True, False, 0, 1, -1, LONG, -LONG, "", "over", "apart", "clear", "meets", "x" * 3000, " \n~", (), [], {},
+    ("",), (None,), (True,), (0,), [0], {0: 1}, {"over": (1, 0)}, (1, 0), (0, 1), ((0, 1), (0, 1)), [(0, 1), (0, 1)],
+    (1, 2, 3), ("a", "b", (1, 0)), (("a", "b", (1, 0)),), [("a", "b", (1, 0))], {("a", "b"): (1, 0)},
+    nested(1, 12), nested((1, 0), 10), [[[[[]]]]], {"a": {"b": {"c": [1, (2, {"d": None})]}}},
+    (LONG, LONG - 1), ((LONG, 1), (1, LONG)), tuple(range(9000)), ["abc"] * 3000, ((),) * 3000, ((0, 1),) * 3000,
+]
+
+
+def broken(thing):
+    """The thing, made of tuples, texts and whole numbers, with one part at a time of a wrong kind or count."""
+    found = []
+    if isinstance(thing, tuple):
+        found += [list(thing), thing + (None,), thing + thing[-1:], dict(enumerate(thing)), str(thing), (thing,)]
+        if thing:
+            found.append(thing[:-1])
+            found.append(thing[1:])
+        for at, part in enumerate(thing):
+            found += [thing[:at] + (other,) + thing[at + 1:] for other in broken(part)]
+    elif isinstance(thing, str):
+        found += [thing + "x", thing[:-1], thing.upper(), " " + thing, (thing,), [thing], None, True, 0]
+    else:
+        found += [str(thing), None, (thing,), [thing], (thing, 1), {thing: thing}]
+        if thing in (0, 1):
+            found.append(bool(thing))
+    return found
+
+
+class Held:
+    """For a test of a held: what it tells is True or False itself, and what is handed in isn't changed."""
+
+    def assert_held(self, good, call, *given, **named):
+        kept = copy.deepcopy((given, named))
+        with self.subTest(repr(given)[:300]):
+            self.assertIs(call(*given, **named), good)
+            self.assertEqual((given, named), kept)
