@@ -22,3 +22,11 @@ def find_row(rows, name):
         if row[0] == name:
             return row
     raise NoBody("no body is called so")
+
+
+def pairs(rows):
+    """Each two bodies that aren't both walls, as a list of (row, row) in the order of names."""
+    found = []
+    for at, one in enumerate(rows):
+        found += [(one, other) for other in rows[at + 1:] if one[2] > 0 or other[2] > 0]
+    return found

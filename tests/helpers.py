@@ -3,6 +3,7 @@
 import copy
 import random
 from fractions import Fraction
+from math import gcd
 
 from restbodies.bodies import free, railed, wall
 
@@ -156,3 +157,49 @@ class Held:
         with self.subTest(repr(given)[:300]):
             self.assertIs(call(*given, **named), good)
             self.assertEqual((given, named), kept)
+
+
+def answer_of(row, x, y):
+    """The change of a body's speed by a push, by point 14, in Fractions."""
+    mass, rail = row[2], row[3]
+    if mass == 0:
+        return (Fraction(0), Fraction(0))
+    if rail is None:
+        return (Fraction(x) / mass, Fraction(y) / mass)
+    p, q = rail
+    part = Fraction(p * x + q * y) / (mass * (p * p + q * q))
+    return (p * part, q * part)
+
+
+def speeds_behind(rows, contacts, pushes):
+    """The speeds behind pushes, a dict of two Fractions by names; each push by itself, in turn."""
+    speeds = {row[0]: values(row[5]) for row in rows}
+    by_name = {row[0]: row for row in rows}
+    for (low, high, (p, q)), push in zip(contacts, pushes):
+        for name, sign in [(low, -1), (high, 1)]:
+            x, y = answer_of(by_name[name], sign * p * Fraction(*push), sign * q * Fraction(*push))
+            speeds[name] = [speeds[name][0] + x, speeds[name][1] + y]
+    return speeds
+
+
+def partings_of(speeds, contacts):
+    return [p * (speeds[high][0] - speeds[low][0]) + q * (speeds[high][1] - speeds[low][1])
+            for low, high, (p, q) in contacts]
+
+
+def do_hold(rows, contacts, pushes):
+    """Whether pushes, shares, hold."""
+    partings = partings_of(speeds_behind(rows, contacts, pushes), contacts)
+    return all(push[0] >= 0 and parting >= 0 and push[0] * parting == 0 for push, parting in zip(pushes, partings))
+
+
+def some_contacts(dice, rows, count, top=2):
+    """Any contacts of a world's rows, places aside."""
+    names = [row[0] for row in rows]
+    found = []
+    while len(found) < count and len(names) > 1:
+        low, high = sorted(dice.sample(names, 2))
+        way = (dice.randint(-top, top), dice.randint(-top, top))
+        if gcd(*way) == 1:
+            found.append((low, high, way))
+    return tuple(found)

@@ -6,7 +6,7 @@ import unittest
 from restbodies import rows
 from restbodies.bodies import free, railed, wall
 from restbodies.errors import NoBody
-from restbodies.rows import find_row, moved, sped
+from restbodies.rows import find_row, moved, pairs, sped
 from restbodies.shares import NOUGHT
 from restbodies.spots import STILL
 
@@ -88,6 +88,15 @@ class FindRow(unittest.TestCase):
         world = tuple(free(name, BOX) for name in ["ab", "abc", "b"])
         for name in [None, True, False, 0, 1, (), [], {}, ("ab",), ["ab"], {"ab": 1}, world[0], world, 10 ** 900]:
             self.assert_no_body(world, name)
+
+
+class Pairs(unittest.TestCase):
+
+    def test_each_two_that_are_not_both_walls(self):
+        a, b, c, d = wall("a", BOX), free("b", BOX), wall("c", BOX), railed("d", BOX, rail=(1, 0))
+        self.assertEqual(pairs((a, b, c, d)), [(a, b), (a, d), (b, c), (b, d), (c, d)])
+        for world in [(), (b,), (a,), (a, c)]:
+            self.assertEqual(pairs(world), [])
 
 
 if __name__ == "__main__":
