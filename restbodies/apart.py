@@ -7,6 +7,11 @@ from restbodies.shares import NOUGHT, minus, order, over, plus
 from restbodies.spots import along, is_spot, is_way, spot_minus, spot_plus, spot_times
 
 
+def are_over(one, other):
+    """Whether the two are over one another now."""
+    return all([start < 0 for way, start, slope in courses(one, other)])
+
+
 def corner_spots(shape):
     return [((x, 1), (y, 1)) for x, y in shape]
 

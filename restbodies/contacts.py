@@ -3,8 +3,8 @@
 from restbodies.errors import Over
 from restbodies.gaps import courses, rate
 from restbodies.rows import find_row, pairs
-from restbodies.shares import NOUGHT, order
-from restbodies.spots import way_of
+from restbodies.shares import on_one_bottom
+from restbodies.spots import is_way, way_of
 
 
 def sum_way(one, other):
@@ -41,12 +41,34 @@ def contacts(rows):
     return tuple(found)
 
 
+def are_contacts(thing, due):
+    """Whether a thing, which may be anything, is what contacts told; truths in a way are no numbers."""
+    return thing == due and all([is_way(contact[2]) for contact in thing])
+
+
 def parting(rows, contact):
     """How fast the two of a contact part, a share."""
     low, high, way = contact
     return rate(find_row(rows, low), find_row(rows, high), way)
 
 
+def speeds_of(rows):
+    """Each speed as two whole numbers, a dict by names, and the bottom of them all."""
+    tops, bottom = on_one_bottom([part for row in rows for part in row[5]])
+    return ({row[0]: (tops[2 * at], tops[2 * at + 1]) for at, row in enumerate(rows)}, bottom)
+
+
+def partings(contacts, speeds):
+    """How fast the two of each contact part, a list of whole numbers, by what speeds_of tells."""
+    told = []
+    for low, high, (p, q) in contacts:
+        x, y = speeds[low]
+        u, v = speeds[high]
+        told.append(p * (u - x) + q * (v - y))
+    return told
+
+
 def closing(rows, contacts):
     """Whether some contact's parting is below nought."""
-    return any([order(parting(rows, contact), NOUGHT) < 0 for contact in contacts])
+    speeds, bottom = speeds_of(rows)
+    return any([top < 0 for top in partings(contacts, speeds)])

@@ -1,25 +1,25 @@
 """Pushes: what they make of the speeds, and whether they hold."""
 
 from restbodies.bodies import body_of
-from restbodies.contacts import parting
+from restbodies.contacts import partings, speeds_of
 from restbodies.rows import sped
-from restbodies.shares import NOUGHT, is_share, order, plus, times
-from restbodies.spots import STILL, spot_minus, spot_plus, spot_times
-
-
-def push_spot(way, push):
-    p, q = way
-    return (times((p, 1), push), times((q, 1), push))
+from restbodies.shares import NOUGHT, is_share, on_one_bottom, order, plus, share, times
+from restbodies.spots import STILL, spot_plus, spot_times
 
 
 def push_sums(rows, contacts, pushes):
-    """The sum of all pushes at each body, a dict by names."""
-    sums = {row[0]: STILL for row in rows}
-    for (low, high, way), push in zip(contacts, pushes):
-        spot = push_spot(way, push)
-        sums[low] = spot_minus(sums[low], spot)
-        sums[high] = spot_plus(sums[high], spot)
-    return sums
+    """The sum of all pushes at each body, a dict by names.
+
+    It is reckoned over one bottom: only the sums need be brought to lowest terms.
+    """
+    tops, bottom = on_one_bottom(pushes)
+    sums = {row[0]: (0, 0) for row in rows}
+    for (low, high, (p, q)), top in zip(contacts, tops):
+        x, y = sums[low]
+        sums[low] = (x - p * top, y - q * top)
+        x, y = sums[high]
+        sums[high] = (x + p * top, y + q * top)
+    return {name: (share(x, bottom), share(y, bottom)) for name, (x, y) in sums.items()}
 
 
 def pushed(rows, contacts, pushes):
@@ -28,21 +28,30 @@ def pushed(rows, contacts, pushes):
     return tuple([sped(row, body_of(row).answer(sums[row[0]])) for row in rows])
 
 
+def kicked(rows, pull):
+    """The rows with each speed changed by the body's own change by a pull."""
+    return tuple([sped(row, body_of(row).kick(pull)) for row in rows])
+
+
 def is_push(thing):
     """Whether a thing, which may be anything, is a share from nought on."""
     return is_share(thing) and order(thing, NOUGHT) >= 0
 
 
+def are_pushes(thing, contacts):
+    """Whether a thing, which may be anything, is a tuple of a push not below nought for each contact."""
+    if not isinstance(thing, tuple) or len(thing) != len(contacts):
+        return False
+    return all([is_push(push) for push in thing])
+
+
 def pushes_held(rows, contacts, pushes):
     """Whether the pushes, which may be anything, are as many shares as there are contacts, and hold."""
-    if not isinstance(pushes, tuple) or len(pushes) != len(contacts):
+    if not are_pushes(pushes, contacts):
         return False
-    if not all([is_push(push) for push in pushes]):
-        return False
-    behind = pushed(rows, contacts, pushes)
-    for contact, push in zip(contacts, pushes):
-        sign = order(parting(behind, contact), NOUGHT)
-        if sign < 0 or (sign > 0 and push != NOUGHT):
+    speeds, bottom = speeds_of(pushed(rows, contacts, pushes))
+    for push, top in zip(pushes, partings(contacts, speeds)):
+        if top < 0 or (top > 0 and push != NOUGHT):
             return False
     return True
 

@@ -1,7 +1,7 @@
 """Shares: fractions in lowest terms, tuples (top, bottom) with a bottom of at least 1."""
 
 from restbodies.errors import NoShare
-from restbodies.wholes import common_divisor, is_numeral, is_whole
+from restbodies.wholes import common_divisor, is_numeral, is_short, is_whole
 
 NOUGHT = (0, 1)
 WHOLE = (1, 1)
@@ -15,6 +15,11 @@ def is_share(thing):
     if not is_whole(top) or not is_whole(bottom):
         return False
     return bottom >= 1 and common_divisor(top, bottom) == 1
+
+
+def is_short_share(thing):
+    """Whether a thing, which may be anything, is a share with at most FIGURES figures in each number."""
+    return is_share(thing) and is_short(thing[0]) and is_short(thing[1])
 
 
 def share(top, bottom=1):

@@ -7,6 +7,7 @@ nought while theirs are nought. So they are at most two for each body, however m
 """
 
 from restbodies.bodies import body_of
+from restbodies.contacts import partings, speeds_of
 from restbodies.holding import Holding, dot
 from restbodies.shares import NOUGHT, WHOLE, on_one_bottom, share
 from restbodies.wholes import common_divisor
@@ -57,30 +58,24 @@ def table_of(contacts, factors, mobilities):
     return [[product(line, column) for column in columns] for line in lines]
 
 
-def speeds_of(rows):
-    """Each speed as two whole numbers, a dict by names, and the bottom of them all."""
-    tops, bottom = on_one_bottom([part for row in rows for part in row[5]])
-    return ({row[0]: (tops[2 * at], tops[2 * at + 1]) for at, row in enumerate(rows)}, bottom)
-
-
-def partings_behind(partings, holding, tops):
+def partings_behind(start, holding, tops):
     """The partings behind the held ones' pushes, all times the determinant."""
     behind = []
-    for value, line in zip(partings, holding.table):
+    for value, line in zip(start, holding.table):
         behind.append(value * holding.determinant + dot([line[at] for at in holding.held], tops))
     return behind
 
 
-def worst_of(partings, weights):
+def worst_of(tops, weights):
     """The contact that closes most, by the square of its parting over its weight; None where none closes.
 
     By so much moving(..) would fall if it alone were held. To take any that closes would do as well, but
     this comes home in fewer steps.
     """
     worst = None
-    for at, value in enumerate(partings):
-        if value < 0:
-            if worst is None or value * value * weights[worst] > partings[worst] * partings[worst] * weights[at]:
+    for at, top in enumerate(tops):
+        if top < 0:
+            if worst is None or top * top * weights[worst] > tops[worst] * tops[worst] * weights[at]:
                 worst = at
     return worst
 
@@ -114,15 +109,15 @@ def settled(holding, tops, aims):
     return due
 
 
-def hold_until_none_closes(holding, partings, weights):
+def hold_until_none_closes(holding, start, weights):
     """Holds and lets go contacts until none closes; tells the held ones' pushes, over the determinant."""
-    aims = [-value for value in partings]
+    aims = [-value for value in start]
     tops = []
-    worst = worst_of(partings, weights)
+    worst = worst_of(start, weights)
     while worst is not None:
         holding.hold(worst)
         tops = settled(holding, tops + [0], aims)
-        worst = worst_of(partings_behind(partings, holding, tops), weights)
+        worst = worst_of(partings_behind(start, holding, tops), weights)
     return tops
 
 
@@ -132,9 +127,9 @@ def find_pushes(rows, contacts):
     factors = factors_of(contacts, mobilities)
     table = table_of(contacts, factors, mobilities)
     speeds, bottom = speeds_of(rows)
-    partings = [factor * product(shoves(contact), speeds) for contact, factor in zip(contacts, factors)]
+    start = [factor * top for factor, top in zip(factors, partings(contacts, speeds))]
     weights = [factor * table[at][at] for at, factor in enumerate(factors)]
     holding = Holding(table)
-    tops = hold_until_none_closes(holding, partings, weights)
+    tops = hold_until_none_closes(holding, start, weights)
     told = {at: share(top, holding.determinant * bottom) for at, top in zip(holding.held, tops)}
     return tuple([told.get(at, NOUGHT) for at in range(len(contacts))])

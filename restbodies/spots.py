@@ -1,8 +1,8 @@
 """Spots, tuples of two shares (x, y), and ways, tuples of two whole numbers without a common divisor."""
 
 from restbodies.errors import NoWay
-from restbodies.shares import is_share, minus, plus, times
-from restbodies.wholes import common_divisor, is_short, is_whole
+from restbodies.shares import is_share, is_short_share, minus, plus, times
+from restbodies.wholes import common_divisor, is_whole
 
 STILL = ((0, 1), (0, 1))
 
@@ -16,7 +16,7 @@ def is_spot(thing):
 
 def is_short_spot(thing):
     """Whether a thing, which may be anything, is a spot with at most FIGURES figures in each number."""
-    return is_spot(thing) and all([is_short(number) for part in thing for number in part])
+    return is_spot(thing) and is_short_share(thing[0]) and is_short_share(thing[1])
 
 
 def is_way(thing):

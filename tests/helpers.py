@@ -13,6 +13,7 @@ EIGHT = ((-2, -1), (-1, -2), (1, -2), (2, -1), (2, 1), (1, 2), (-1, 2), (-2, 1))
 THIN = ((0, 0), (7, 1), (1, 1))
 DIAMOND = ((-1, 0), (0, -1), (1, 0), (0, 1))
 SHAPES = (BOX, TRIANGLE, EIGHT, THIN, DIAMOND)
+LETTERS = "abcdefghijkl"
 
 
 def told(value):
@@ -111,6 +112,29 @@ def some_row(dice, name, top=12, bottom=6):
 def some_pairs(count, seed, top=12, bottom=6):
     dice = random.Random(seed)
     return [(some_row(dice, "a", top, bottom), some_row(dice, "b", top, bottom)) for _ in range(count)]
+
+
+def some_heap(dice, count, top=4, bottom=1, tries=60):
+    """Rows of a world of which no two are over, walls neither; with whole places many of them touch."""
+    rows = []
+    while len(rows) < count and tries > 0:
+        tries -= 1
+        row = some_row(dice, LETTERS[len(rows)], top, bottom)
+        if not any(are_over(row, other) for other in rows):
+            rows.append(row)
+    return tuple(rows)
+
+
+def wedges(count=12, **more):
+    """Up to twelve triangles around one spot, so that each two of them touch."""
+    ring = [(4, 0), (4, 1), (3, 3), (1, 4), (0, 4), (-2, 3), (-4, 2), (-4, 0), (-3, -3), (-1, -4), (1, -4), (3, -2)]
+    ends = list(zip(ring, ring[1:] + ring[:1]))[:count]
+    return tuple(free(name, ((0, 0), start, end), **more) for name, (start, end) in zip(LETTERS, ends))
+
+
+def with_speeds(rows, speeds):
+    """The rows with other speeds, two plain numbers each, by names; STILL where none is told."""
+    return tuple(row[:5] + (spot(*speeds.get(row[0], (0, 0))),) for row in rows)
 
 
 def nested(thing, depth):

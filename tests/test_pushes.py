@@ -6,8 +6,8 @@ import unittest
 from fractions import Fraction
 
 from helpers import (
-    ANYTHING, BOX, Held, box, broken, do_hold, some_contacts, some_row, some_share, speeds_behind, spot, told, values,
-    world,
+    ANYTHING, BOX, LETTERS, Held, box, broken, do_hold, some_contacts, some_row, some_share, speeds_behind, spot, told,
+    values, world,
 )
 from restbodies import pushes as module
 from restbodies.bodies import free, railed, wall
@@ -16,7 +16,6 @@ from restbodies.solving import find_pushes
 from restbodies.spots import STILL
 
 HAIR = Fraction(1, 10 ** 60)
-LETTERS = "abcdefghijkl"
 
 
 class Interface(unittest.TestCase):

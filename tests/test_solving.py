@@ -8,7 +8,7 @@ from fractions import Fraction
 from itertools import combinations
 from math import gcd
 
-from helpers import BOX, EIGHT, box, do_hold, some_contacts, some_row, speeds_behind, spot, told, world
+from helpers import BOX, EIGHT, LETTERS, box, do_hold, some_contacts, some_row, speeds_behind, spot, told, world
 from restbodies import solving
 from restbodies.bodies import free, railed, wall
 from restbodies.bounds import FIGURES, MASS, REACH
@@ -17,7 +17,6 @@ from restbodies.pushes import pushed, pushes_held
 from restbodies.shares import is_share
 from restbodies.solving import find_pushes
 
-LETTERS = "abcdefghijkl"
 RIGHT = (1, 0)
 UP = (0, 1)
 
