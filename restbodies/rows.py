@@ -10,10 +10,15 @@ def moved(row, span):
     return (name, shape, mass, rail, spot_plus(place, spot_times(speed, span)), speed)
 
 
+def with_speed(row, speed):
+    """The row with another speed."""
+    name, shape, mass, rail, place, old = row
+    return (name, shape, mass, rail, place, speed)
+
+
 def sped(row, change):
     """The row with its speed plus the change."""
-    name, shape, mass, rail, place, speed = row
-    return (name, shape, mass, rail, place, spot_plus(speed, change))
+    return with_speed(row, spot_plus(row[5], change))
 
 
 def find_row(rows, name):

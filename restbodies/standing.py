@@ -8,14 +8,10 @@ sum of mass times (pull . speed) is moving(..) of them, and they are the paper o
 from restbodies.bodies import body_of
 from restbodies.contacts import are_contacts, closing, contacts
 from restbodies.pushes import are_pushes, kicked, pushed
+from restbodies.rows import with_speed
 from restbodies.shares import NOUGHT, order, plus, times
 from restbodies.solving import find_pushes
 from restbodies.spots import STILL, is_spot
-
-
-def with_speed(row, speed):
-    name, shape, mass, rail, place, old = row
-    return (name, shape, mass, rail, place, speed)
 
 
 def stilled(rows):

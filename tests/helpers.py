@@ -6,6 +6,11 @@ from fractions import Fraction
 from math import gcd
 
 from restbodies.bodies import free, railed, wall
+from restbodies.contacts import closing, contacts
+from restbodies.errors import BodyError
+from restbodies.flights import flight, next_time
+from restbodies.meetings import meeting, met, pulled, pulling
+from restbodies.rows import moved
 
 BOX = ((0, 0), (2, 0), (2, 2), (0, 2))
 TRIANGLE = ((0, 0), (3, 0), (0, 2))
@@ -125,6 +130,27 @@ def some_heap(dice, count, top=4, bottom=1, tries=60):
     return tuple(rows)
 
 
+def room(size=14):
+    """Four walls around a square from 0 to size."""
+    return [wall("wa", ((-1, -1), (size, -1), (size, 0), (-1, 0))),
+            wall("wb", ((-1, size), (size, size), (size, size + 1), (-1, size + 1))),
+            wall("wc", ((-1, 0), (0, 0), (0, size), (-1, size))),
+            wall("wd", ((size, 0), (size + 1, 0), (size + 1, size), (size, size)))]
+
+
+def some_room(dice, count, size=14, railed_too=True):
+    """A room's walls, and up to so many bodies within it that go."""
+    rows = room(size)
+    tries = 200
+    while len(rows) < count + 4 and tries > 0:
+        tries -= 1
+        row = some_row(dice, LETTERS[len(rows) - 4], size, 2)
+        near = all(0 <= x <= size and 0 <= y <= size for x, y in corners_of(row))
+        if near and (row[3] is None or railed_too) and not any(are_over(row, other) for other in rows):
+            rows.append(row)
+    return world(*rows)
+
+
 def wedges(count=12, **more):
     """Up to twelve triangles around one spot, so that each two of them touch."""
     ring = [(4, 0), (4, 1), (3, 3), (1, 4), (0, 4), (-2, 3), (-4, 2), (-4, 0), (-3, -3), (-1, -4), (1, -4), (3, -2)]
@@ -171,6 +197,42 @@ def broken(thing):
         if thing in (0, 1):
             found.append(bool(thing))
     return found
+
+
+def acts_due(state, span):
+    """The acts of a beat and the state behind it, by the words of point 34, without any bound."""
+    pull, give, clock, rows = state
+    acts, left = [], Fraction(*span)
+    if closing(rows, contacts(rows)):
+        acts.append(meeting(rows, give))
+        rows = met(rows, give, acts[-1])
+    kick = spot(*[part * left for part in values(pull)])
+    acts.append(pulling(rows, kick))
+    rows = pulled(rows, kick, acts[-1])
+    while True:
+        due = next_time(rows, told(left))
+        step = told(left) if due is None else due
+        acts.append(("fly", step, flight(rows, step)))
+        rows = tuple(moved(row, step) for row in rows)
+        clock = told(Fraction(*clock) + Fraction(*step))
+        if due is None:
+            return tuple(acts), (pull, give, clock, rows)
+        left -= Fraction(*step)
+        acts.append(meeting(rows, give))
+        rows = met(rows, give, acts[-1])
+
+
+class Refusing:
+    """For a test of a world, or of what keeps one: what is refused changes nothing."""
+
+    def assert_refused(self, kind, kept, call, *given, **named):
+        """The refusal is just of this kind; its fields are told, to be looked at."""
+        ahead = copy.deepcopy((kept.state(), kept.story(), kept.start(), given, named))
+        with self.assertRaises(BodyError) as caught:
+            call(*given, **named)
+        self.assertIs(type(caught.exception), kind)
+        self.assertEqual((kept.state(), kept.story(), kept.start(), given, named), ahead)
+        return vars(caught.exception)
 
 
 class Held:
