@@ -43,6 +43,6 @@ def read_lines(lines):
 
 def read_state(text):
     """The state of a text, its bodies in any order."""
-    head, *rows = read_lines(text.split("\n"))
-    pull, give, clock = head
-    return look_state((pull, give, clock, rows))
+    told = read_lines(text.split("\n"))
+    pull, give, clock = told[0]
+    return look_state((pull, give, clock, told[1:]))

@@ -164,7 +164,7 @@ class Refusals(Lines):
 
     def test_bad_lines(self):
         desk = desk_with(FLOOR, BALL, CART)
-        wrong = ["", " ", "\n", "x", "Turn", "turn ", " turn", "turn turn", "turn\n", "\nturn", "take", "take a b", "take  ball",
+        wrong = ["", "take ", "wall  0 90 0,0 1,0 0,1", " ", "\n", "x", "Turn", "turn ", " turn", "turn turn", "turn\n", "\nturn", "take", "take a b", "take  ball",
                  "take ball ", "take ball\n", "take\nball", "shove ball", "shove ball 1", "shove ball 1 2 3", "shove ball 1 x",
                  "shove ball +1 2", "shove ball 2/4 1", "shove ball 1 01", "beat", "beat x", "beat 1 x", "beat 1 1 1", "beat 1/1",
                  "beat 1 1/2", "beat 1 +1", "beat 01", "beat 1 01", "beat " + TENS, "beat 1 " + TENS, "back 1", "back back",

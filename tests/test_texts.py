@@ -132,6 +132,8 @@ class Refusals(unittest.TestCase):
             for at, sign in enumerate(line):
                 if sign == " ":
                     self.assert_bad(line[:at] + " " + line[at:])
+        for line in ["wall  0 90 0,0 1,0 0,1", "free  1 0 90 0 0 0,0 1,0 0,1"]:
+            self.assert_bad(line)
         for line in [WORLD + " ", " " + WORLD, WORLD.replace(" ", "  ", 1)]:
             self.assert_bad(line, 0)
 
