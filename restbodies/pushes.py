@@ -7,19 +7,24 @@ from restbodies.shares import NOUGHT, is_share, on_one_bottom, order, plus, shar
 from restbodies.spots import STILL, spot_plus, spot_times
 
 
-def push_sums(rows, contacts, pushes):
-    """The sum of all pushes at each body, a dict by names.
+def push_sum(parts):
+    """The sum of pushes at one body, of (p, q, push) each.
 
-    It is reckoned over one bottom: only the sums need be brought to lowest terms.
+    It is reckoned over one bottom: only the sum need be brought to lowest terms.
     """
-    tops, bottom = on_one_bottom(pushes)
-    sums = {row[0]: (0, 0) for row in rows}
-    for (low, high, (p, q)), top in zip(contacts, tops):
-        x, y = sums[low]
-        sums[low] = (x - p * top, y - q * top)
-        x, y = sums[high]
-        sums[high] = (x + p * top, y + q * top)
-    return {name: (share(x, bottom), share(y, bottom)) for name, (x, y) in sums.items()}
+    tops, bottom = on_one_bottom([push for p, q, push in parts])
+    x = sum([p * top for (p, q, push), top in zip(parts, tops)])
+    y = sum([q * top for (p, q, push), top in zip(parts, tops)])
+    return (share(x, bottom), share(y, bottom))
+
+
+def push_sums(rows, contacts, pushes):
+    """The sum of all pushes at each body, a dict by names."""
+    parts = {row[0]: [] for row in rows}
+    for (low, high, (p, q)), push in zip(contacts, pushes):
+        parts[low].append((-p, -q, push))
+        parts[high].append((p, q, push))
+    return {name: push_sum(each) for name, each in parts.items()}
 
 
 def pushed(rows, contacts, pushes):
